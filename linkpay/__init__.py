@@ -1,0 +1,1 @@
+"""Linkpay: a row of links, some opened, so that every amount can be handed over."""

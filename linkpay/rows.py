@@ -10,15 +10,19 @@ def check_links(links):
         raise NoRow(f"a row has 1 to 10 ** 30 links, not {links}")
 
 
+def rises_below(numbers, end):
+    before = -1
+    for number in numbers:
+        if not before < number < end:
+            return False
+        before = number
+    return True
+
+
 def check_row(links, opened):
     check_links(links)
-    if len(opened) > MOST_OPENED:
-        raise NoOpened(f"at most {MOST_OPENED} links may be opened")
-    before = -1
-    for link in opened:
-        if not before < link < links:
-            raise NoOpened(f"the opened link {link} is not above {before} and below {links}")
-        before = link
+    if len(opened) > MOST_OPENED or not rises_below(opened, links):
+        raise NoOpened(f"the opened links are a rising list of at most {MOST_OPENED} numbers from 0 and below {links}")
 
 
 def pieces(links, opened):

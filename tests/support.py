@@ -1,6 +1,7 @@
 """What several test files need: rows to ask of, and answers found by going through everything."""
 
 import contextlib
+import copy
 import itertools
 import signal
 from collections import Counter
@@ -61,6 +62,20 @@ def opened_between(sizes):
         opened.append(links)
         links += 1
     return links + sizes[-1], opened
+
+
+def sizes_of(links, opened):
+    return [size for first, size in pieces_by_links(links, opened)]
+
+
+def assert_refused(case, error, ask, *handed):
+    """Fails unless ask refuses what is handed to it with just this error, and leaves the lists as they were."""
+    before = copy.deepcopy(handed)
+    with case.subTest(ask=ask.__name__, handed=before):
+        with case.assertRaises(error) as caught:
+            ask(*handed)
+        case.assertIs(type(caught.exception), error)
+        case.assertEqual(handed, before)
 
 
 @contextlib.contextmanager

@@ -31,8 +31,8 @@ METHODS = set("""append clear copy count endswith extend find get index insert i
     rstrip setdefault split splitlines startswith strip update upper values zfill bit_length""".split())
 
 # L17
-WORDS = re.compile(r"\b(type|typing|typing_extensions|enum|Enum|IntEnum|StrEnum|Flag|IntFlag|Generic|Protocol|ABC|ABCMeta"
-                   r"|namedtuple|NamedTuple|TypedDict|TYPE_CHECKING|abstractmethod)\b"
+WORDS = re.compile(r"\b(type|typing|typing_extensions|enum|Enum|IntEnum|StrEnum|Flag|IntFlag|Generic|Protocol|ABC"
+                   r"|ABCMeta|namedtuple|NamedTuple|TypedDict|TYPE_CHECKING|abstractmethod)\b"
                    r"|dataclass|overload|contextmanager")
 
 
@@ -121,7 +121,8 @@ class Language(unittest.TestCase):
             asked = node.args
             self.assertLessEqual(node.end_lineno - node.lineno + 1, 40, place)
             self.assertEqual(node.decorator_list, [], place)
-            self.assertEqual((asked.vararg, asked.kwarg, asked.kwonlyargs, asked.posonlyargs), (None, None, [], []), place)
+            self.assertEqual((asked.vararg, asked.kwarg), (None, None), place)
+            self.assertEqual((asked.kwonlyargs, asked.posonlyargs), ([], []), place)
 
     def test_classes(self):
         for place, node in nodes(ast.ClassDef):
@@ -138,6 +139,17 @@ class Language(unittest.TestCase):
                 self.assertIsInstance(node.ctx, ast.Load, place)
         for place, node in nodes(ast.arg):
             self.assertFalse(node.arg.startswith("_") or hasattr(builtins, node.arg), place)
+
+    def test_each_name_has_one_meaning_in_its_file(self):
+        for path, tree in trees():
+            top = [alias.name for node in tree.body if isinstance(node, ast.ImportFrom) for alias in node.names]
+            top += [node.name for node in tree.body if isinstance(node, (ast.FunctionDef, ast.ClassDef))]
+            top += [node.targets[0].id for node in tree.body if isinstance(node, ast.Assign)]
+            self.assertEqual(sorted(top), sorted(set(top)), path)
+            within = [part for node in tree.body if isinstance(node, ast.FunctionDef) for part in ast.walk(node)]
+            inner = {part.id for part in within if isinstance(part, ast.Name) and isinstance(part.ctx, ast.Store)}
+            inner |= {part.arg for part in within if isinstance(part, ast.arg)}
+            self.assertEqual(inner & set(top), set(), path)
 
     def test_methods(self):
         own = {node.name for place, node in nodes(ast.FunctionDef)}

@@ -1,11 +1,11 @@
-"""Points 1 to 3 and 6: rows, their pieces and their gap."""
+"""Points 1, 3 and 6: the pieces of rows and their gap."""
 
 import unittest
 
-from linkpay.errors import NoOpened, NoRow
+from linkpay.errors import NoOpened
 from linkpay.rows import gap, pieces
 from tests.support import (MOST_LINKS, all_rows, answered_soon, counts_by_amount, least_missing, opened_between,
-                           pieces_by_links)
+                           pieces_by_links, sizes_of)
 
 
 class Pieces(unittest.TestCase):
@@ -102,14 +102,14 @@ class Gap(unittest.TestCase):
 
     def test_every_small_row(self):
         for links, opened in all_rows(10, 10):
-            amounts = counts_by_amount([size for first, size in pieces_by_links(links, opened)])
+            amounts = counts_by_amount(sizes_of(links, opened))
             self.assertEqual(gap(links, opened), least_missing(links, amounts), (links, opened))
 
     def test_rows_of_some_length_with_few_opened(self):
         for links in (23, 24, 31):
             for left in range(links):
                 for right in range(left + 1, links):
-                    amounts = counts_by_amount([size for first, size in pieces_by_links(links, [left, right])])
+                    amounts = counts_by_amount(sizes_of(links, [left, right]))
                     self.assertEqual(gap(links, [left, right]), least_missing(links, amounts), (links, left, right))
 
     def test_the_longest_rows_without_opened(self):
@@ -146,53 +146,6 @@ class Gap(unittest.TestCase):
 
     def test_kind(self):
         self.assertIs(type(gap(links=8, opened=[2])), int)
-
-
-class Refusals(unittest.TestCase):
-    asked = (pieces, gap)
-
-    def assert_refused(self, error, links, opened):
-        for ask in self.asked:
-            with self.subTest(ask=ask.__name__, links=links, opened=opened):
-                with self.assertRaises(error) as caught:
-                    ask(links, opened)
-                self.assertIs(type(caught.exception), error)
-
-    def test_numbers_of_links(self):
-        for links in (0, -1, -5, -10 ** 32, MOST_LINKS + 1, 10 ** 32):
-            self.assert_refused(NoRow, links, [])
-
-    def test_the_least_and_the_most_links_are_allowed(self):
-        for links in (1, MOST_LINKS):
-            for ask in self.asked:
-                ask(links, [])
-                ask(links, [links - 1])
-
-    def test_opened_links_that_the_row_has_not(self):
-        for opened in ([-1], [-10 ** 32], [5], [6], [10 ** 32], [-1, 2], [2, 5], [0, 1, 2, 3, 4, 5]):
-            self.assert_refused(NoOpened, 5, opened)
-        self.assert_refused(NoOpened, 1, [1])
-        self.assert_refused(NoOpened, MOST_LINKS, [MOST_LINKS])
-
-    def test_opened_links_told_twice(self):
-        for opened in ([0, 0], [4, 4], [1, 2, 2], [1, 1, 2], [1, 2, 1]):
-            self.assert_refused(NoOpened, 5, opened)
-
-    def test_opened_links_that_do_not_rise(self):
-        for opened in ([1, 0], [0, 2, 1], [4, 3, 2, 1, 0], [1, 3, 2, 4]):
-            self.assert_refused(NoOpened, 5, opened)
-
-    def test_how_many_may_be_opened(self):
-        for ask in self.asked:
-            ask(500, list(range(100)))
-        self.assert_refused(NoOpened, 500, list(range(101)))
-        self.assert_refused(NoOpened, 500, list(range(200)))
-        self.assert_refused(NoOpened, 101, list(range(101)))
-
-    def test_the_row_is_refused_first(self):
-        for links in (0, -1, MOST_LINKS + 1):
-            for opened in ([-1], [10 ** 32], [1, 1], [2, 1], list(range(101))):
-                self.assert_refused(NoRow, links, opened)
 
 
 class HandedInAndTold(unittest.TestCase):
